@@ -1,0 +1,1 @@
+"""Sunstore: the cheapest day, borne out by prices."""
