@@ -4,6 +4,7 @@ import fractions
 import math
 import unittest
 
+from samples import pair
 from sunstore.errors import NoFraction, StoreError
 from sunstore.fractions import fraction, minus, over, plus, read_fraction, times, under, written
 
@@ -15,11 +16,6 @@ ABOVE_NOUGHT = SMALL + MIDDLE + OF_43_FIGURES + OF_360_FIGURES
 NUMBERS = [0] + ABOVE_NOUGHT + [-number for number in ABOVE_NOUGHT]
 
 FEW = [0, 1, -1, 2, -6, 30, 999983, -720720, 7 ** 50, -(10 ** 42), 3 ** 753, 6 - 10 ** 360]
-
-
-def pair(one):
-    """The oracle's fraction as the program tells it."""
-    return (one.numerator, one.denominator)
 
 
 def some_fractions():

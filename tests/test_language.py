@@ -35,6 +35,12 @@ NOT_USED = set("""
     copyright credits delattr dir eval exec exit gc getattr globals hasattr help id importlib license locals
     methodcaller os quit setattr super vars sys
 """.split())
+WALKS = ("zip", "enumerate", "reversed", "range", "items", "keys", "values")
+TAKING_WALKS = ("list", "tuple", "dict", "sorted", "sum", "any", "all", "enumerate", "zip", "min", "max")
+KEYWORDS = {
+    "sorted": ("key", "reverse"), "min": ("key", "default"), "max": ("key", "default"), "sum": ("start",),
+    "enumerate": ("start",), "zip": ("strict",),
+}
 
 
 def files():
@@ -165,6 +171,49 @@ class Language(unittest.TestCase):
         for node, place in self.each(ast.Call):
             if isinstance(node.func, ast.Attribute):
                 self.assertIn(node.func.attr, known, place)
+
+    def test_one_plain_target(self):
+        for node, place in self.each((ast.Assign, ast.AugAssign)):
+            target = node.targets[0] if isinstance(node, ast.Assign) else node.target
+            self.assertIsInstance(target, (ast.Name, ast.Attribute, ast.Subscript), place)
+
+    def test_no_parameter_and_no_local_is_called_like_an_import_or_a_class(self):
+        for path, tree in trees():
+            taken = {node.name for node in tree.body if isinstance(node, ast.ClassDef)}
+            for node in tree.body:
+                if isinstance(node, ast.ImportFrom):
+                    taken.update(alias.asname or alias.name for alias in node.names)
+            for name, node in bound_names(tree):
+                if not isinstance(node, ast.ClassDef):
+                    self.assertNotIn(name, taken, f"{path.name}:{node.lineno}")
+
+    def test_no_annotations_and_no_sets(self):
+        for node, place in self.each(ast.FunctionDef):
+            told = [node.returns] + [parameter.annotation for parameter in node.args.args]
+            self.assertEqual(told, [None] * len(told), place)
+        for node, place in self.each(ast.Set):
+            self.fail(f"a set in {place}")
+        for node, place in self.each(ast.Name):
+            self.assertNotIn(node.id, ("set", "frozenset"), place)
+
+    def test_walks_stand_where_they_are_walked(self):
+        for path, tree in trees():
+            walked = []
+            for node in ast.walk(tree):
+                if isinstance(node, (ast.For, ast.comprehension)):
+                    walked.append(node.iter)
+                elif isinstance(node, ast.Call) and getattr(node.func, "id", "") in TAKING_WALKS:
+                    walked.extend(node.args[:1])
+            for node in ast.walk(tree):
+                if isinstance(node, ast.Call):
+                    name = getattr(node.func, "id", getattr(node.func, "attr", ""))
+                    if name in WALKS:
+                        self.assertIn(node, walked, f"{path.name}:{node.lineno}")
+
+    def test_keywords(self):
+        for node, place in self.each(ast.Call):
+            for keyword in node.keywords:
+                self.assertIn(keyword.arg, KEYWORDS.get(getattr(node.func, "id", ""), ()), place)
 
     def test_is_stands_beside_none_true_false(self):
         for node, place in self.each(ast.Compare):
