@@ -28,24 +28,32 @@ def fraction(top, bottom):
 
 def plus(one, other):
     """The sum."""
-    return fraction(one[0] * other[1] + other[0] * one[1], one[1] * other[1])
+    # Both are in lowest terms, so only what divides both bottoms can divide the sum's top and bottom. To look for
+    # it there alone, and likewise in a product crosswise, spares divisors of far greater numbers.
+    shared = common_divisor(one[1], other[1])
+    top = one[0] * (other[1] // shared) + other[0] * (one[1] // shared)
+    divisor = common_divisor(abs(top), shared)
+    return (top // divisor, one[1] // shared * (other[1] // divisor))
 
 
 def minus(one, other):
     """The difference."""
-    return fraction(one[0] * other[1] - other[0] * one[1], one[1] * other[1])
+    return plus(one, (-other[0], other[1]))
 
 
 def times(one, other):
     """The product."""
-    return fraction(one[0] * other[0], one[1] * other[1])
+    divisor = common_divisor(abs(one[0]), other[1])
+    other_divisor = common_divisor(abs(other[0]), one[1])
+    top = one[0] // divisor * (other[0] // other_divisor)
+    return (top, one[1] // other_divisor * (other[1] // divisor))
 
 
 def over(one, other):
     """One divided by the other; NoFraction where the other is nought."""
     if other[0] == 0:
         raise NoFraction(one)
-    return fraction(one[0] * other[1], one[1] * other[0])
+    return times(one, fraction(other[1], other[0]))
 
 
 def under(one, other):
