@@ -1,4 +1,4 @@
-"""Houses, their texts and plans to try the program with, and the oracle's own reckoning of them."""
+"""Houses, their texts, plans, prices and problems to try the program with, and the oracle's own reckoning of them."""
 
 from fractions import Fraction
 import random
@@ -215,3 +215,229 @@ def kinds(value):
     if type(value) in (list, tuple):
         return (type(value), [kinds(part) for part in value])
     return type(value)
+
+
+def some_day(source, hours, works):
+    """A house of small numbers, in which each bound is often met."""
+    rows = []
+    for _ in range(hours):
+        line = None
+        if source.random() < 0.7:
+            line = (source.randint(-9, 30), source.randint(0, 12), source.randint(-9, 25), source.randint(0, 9))
+        rows.append((source.randint(0, 9), source.randint(0, 9), line))
+    size = source.choice([0, 4, 10, 30])
+    start = source.choice([0, size, size // 2])
+    shares = [source.choice([(1, 1), (9, 10), (1, 2), share(source)]) for _ in range(2)]
+    store = (size, start, source.randint(0, 9), source.randint(0, 9), *shares, source.choice([0, 3, 20]))
+    windows = [sorted([source.randrange(hours), source.randrange(hours)]) for _ in range(works)]
+    names = source.sample(NAMES, works)
+    return (tuple(rows), store, tuple(
+        (name, source.randint(0, 12), first, last, source.randint(0, 5)) for name, (first, last) in zip(names, windows)
+    ))
+
+
+def some_days():
+    """Houses of one to several hours with none to two works, and some long ones, by a fixed seed."""
+    source = random.Random(22)
+    days = [some_day(source, 1 + number % 6, number % 3) for number in range(180)]
+    return days + [some_day(source, 24, works) for works in range(7)]
+
+
+def some_portion(source, most):
+    """A fraction from 0 to most, most of them at one of its ends."""
+    return most * source.choice([0, 1, 1, Fraction(source.randint(0, 6), 6)])
+
+
+def good_plan(source, house):
+    """A plan without faults, made hour by hour; what is done in an hour is drawn in an order of its own."""
+    hours, (size, start, fill, take, kept, left, _), works = house
+    kept, left, level = Fraction(*kept), Fraction(*left), Fraction(start)
+    undone = [Fraction(work[1]) for work in works]
+    plan = []
+    for number, (sun, need, line) in enumerate(hours):
+        buy, give = (0, 0) if line is None else (line[1], line[3])
+        bought = some_portion(source, Fraction(buy))
+        taken = some_portion(source, min(Fraction(take), level))
+        rest = sun + bought + left * taken - need
+        lacked = max(-rest, Fraction(0))
+        # To lack more than one has to is no fault.
+        if source.random() < 0.1:
+            lacked += some_portion(source, need - lacked)
+        rest += lacked
+        deeds = {"given": Fraction(0), "filled": Fraction(0)}
+        mosts = {"given": Fraction(give), "filled": min(Fraction(fill), (size - level + taken) / kept)}
+        for j, (_, _, first, last, most) in enumerate(works):
+            deeds[j], mosts[j] = Fraction(0), min(Fraction(most), undone[j]) if first <= number <= last else Fraction(0)
+        for deed in source.sample(list(deeds), len(deeds)):
+            deeds[deed] = some_portion(source, min(mosts[deed], rest))
+            rest -= deeds[deed]
+        undone = [one - deeds[j] for j, one in enumerate(undone)]
+        level += kept * deeds["filled"] - taken
+        row = (bought, deeds["given"], deeds["filled"], taken, lacked)
+        plan.append(tuple(pair(one) for one in row) + (tuple(pair(deeds[j]) for j in range(len(works))),))
+    return tuple(plan)
+
+
+def some_triple(source, number):
+    return tuple(pair(Fraction(number(source))) for _ in range(3))
+
+
+def some_prices(source, house, number):
+    """Prices of a house that aren't refused, parts of either sign."""
+    zero = pair(Fraction(0))
+    here = []
+    for _ in house[0]:
+        triple = some_triple(source, number)
+        top, bottom = next((one for one in triple if one != zero), zero)
+        here.append(triple if top >= 0 else tuple((-one, other) for one, other in triple))
+    stored = [some_triple(source, number) for _ in house[0]]
+    done = [some_triple(source, number) for _ in house[2]]
+    return (tuple(here), tuple(stored), tuple(done))
+
+
+def combined(terms):
+    """The sum of triples, each with what it is multiplied by ahead of it; parts are the oracle's fractions."""
+    return tuple(sum((Fraction(by) * triple[part] for by, triple in terms), Fraction(0)) for part in range(3))
+
+
+def triples_of(told):
+    """Told triples as the oracle's."""
+    return [tuple(Fraction(*one) for one in triple) for triple in told]
+
+
+def rests_of(house, prices):
+    """The oracle's rests of a house's prices: (name, most, rest) for each choice but spilling."""
+    hours, (size, _, fill, take, kept, left, end), works = house
+    here, stored, done = [triples_of(part) for part in prices]
+    found = []
+    for t, (_, need, line) in enumerate(hours):
+        p, q = here[t], stored[t]
+        later = stored[t + 1] if t + 1 < len(hours) else (0, 0, end)
+        if line is not None:
+            found.append((("buy", t), line[1], combined([(1, (0, 0, line[0])), (-1, p)])))
+            found.append((("give", t), line[3], combined([(1, p), (-1, (0, 0, line[2]))])))
+        found.append((("fill", t), fill, combined([(1, p), (-Fraction(*kept), q)])))
+        found.append((("take", t), take, combined([(1, q), (-Fraction(*left), p)])))
+        found.append((("lack", t), need, combined([(1, (1, 0, 0)), (-1, p)])))
+        found.append((("level", t), size, combined([(1, q), (-1, later)])))
+    for j, (_, todo, first, last, most) in enumerate(works):
+        for t in range(first, last + 1):
+            found.append((("work", t, j), most, combined([(1, here[t]), (-1, done[j])])))
+        found.append((("undone", j), todo, combined([(1, (0, 1, 0)), (-1, done[j])])))
+    return found
+
+
+def floor_by_rules(house, prices):
+    """The oracle's floor of a house's prices, or the number of the first hour by which they are refused."""
+    hours, store, works = house
+    here, stored, done = [triples_of(part) for part in prices]
+    for t, triple in enumerate(here):
+        if triple < (0, 0, 0):
+            return t
+    terms = [(need - sun, triple) for (sun, need, _), triple in zip(hours, here)] + [(-store[1], stored[0])]
+    terms += [(work[1], triple) for work, triple in zip(works, done)]
+    return combined(terms + [(most, rest) for _, most, rest in rests_of(house, prices) if rest < (0, 0, 0)])
+
+
+def small_number(source):
+    return source.randint(-6, 6)
+
+
+def scarce_number(source):
+    """Mostly nought, so that second and third parts count."""
+    return source.choice([0, 0, 0, small_number(source)])
+
+
+def broken_number(source):
+    return Fraction(source.randint(-30, 30), source.randint(1, 12))
+
+
+def unlike_number(source):
+    """Nought, great and small numbers of either sign."""
+    return source.choice([0, 1, -1, Fraction(1, 10 ** 60), -10 ** 60, Fraction(-7, 10 ** 59 + 9), 10 ** 60 + 7,
+                          Fraction(source.randint(-10 ** 30, 10 ** 30), source.randint(1, 10 ** 30))])
+
+
+def longest_number(source):
+    """A fraction with tops and bottoms of up to 400 figures."""
+    return Fraction(source.randint(-10 ** 400 + 1, 10 ** 400 - 1), source.randint(10 ** 399, 10 ** 400 - 1))
+
+
+NUMBERS = [small_number, scarce_number, broken_number, unlike_number]
+
+
+def some_problem(source, choices, rows, number, tops, rights):
+    """(costs, rows, rights, tops, first) of numbers so made; tops and rights: the share that has one, that isn't 0."""
+    first = source.sample(range(choices), rows)
+    table = [[pair(Fraction(number(source))) for _ in range(choices)] for _ in range(rows)]
+    for place, row in enumerate(table):
+        for other, choice in enumerate(first):
+            row[choice] = (1 if other == place else 0, 1)
+    right = [abs(Fraction(number(source))) if source.random() < rights else Fraction(0) for _ in range(rows)]
+    top = []
+    for choice in range(choices):
+        one = None
+        if source.random() < tops:
+            one = source.choice([Fraction(0), abs(Fraction(number(source))), abs(Fraction(number(source)))])
+            if choice in first:
+                one = max(one, right[first.index(choice)])
+        top.append(one)
+    costs = [some_triple(source, number) for _ in range(choices)]
+    # Where first parts are alike the second and third ones count.
+    for choice in range(choices):
+        count = source.choice([0, 0, 1, 2])
+        costs[choice] = ((0, 1),) * count + costs[choice][count:]
+    return (costs, table, [pair(one) for one in right], [None if one is None else pair(one) for one in top], first)
+
+
+def some_problems():
+    """Problems of no rows and of several, with tops and without, with rights of nought and others, by a fixed seed."""
+    source = random.Random(18)
+    problems = []
+    for choices, rows in [(1, 0), (1, 1), (2, 1), (4, 0), (5, 2), (6, 3), (8, 3), (12, 4), (15, 6)]:
+        for number in NUMBERS:
+            for tops in (0, 0.5, 1):
+                for rights in (0, 0.6, 1):
+                    problems.append(some_problem(source, choices, rows, number, tops, rights))
+    problems.append(some_problem(source, 5, 2, longest_number, 1, 1))
+    problems.append(some_problem(source, 4, 2, longest_number, 0.5, 1))
+    return problems
+
+
+def is_mix_by_rules(rows, rights, tops, mix):
+    """The oracle's answer if it is a mix."""
+    parts = [Fraction(*one) for one in mix]
+    if any(part < 0 or top is not None and part > Fraction(*top) for part, top in zip(parts, tops)):
+        return False
+    sums = [sum(Fraction(*number) * part for number, part in zip(row, parts)) for row in rows]
+    return sums == [Fraction(*right) for right in rights]
+
+
+def sum_by_rules(costs, mix):
+    """The oracle's sum of a mix."""
+    return combined([(Fraction(*part), triple) for part, triple in zip(mix, triples_of(costs))])
+
+
+def rests_by_rules(costs, rows, prices):
+    """The oracle's rests of a problem's prices."""
+    told = []
+    for choice, triple in enumerate(triples_of(costs)):
+        terms = [(-Fraction(*row[choice]), price) for row, price in zip(rows, triples_of(prices))]
+        told.append(combined([(1, triple)] + terms))
+    return told
+
+
+def problem_floor(costs, rows, rights, tops, prices):
+    """The oracle's floor of a problem's prices, or None."""
+    terms = [(Fraction(*right), price) for right, price in zip(rights, triples_of(prices))]
+    for rest, top in zip(rests_by_rules(costs, rows, prices), tops):
+        if rest < (0, 0, 0):
+            if top is None:
+                return None
+            terms.append((Fraction(*top), rest))
+    return combined(terms)
+
+
+def paired(triple):
+    """The oracle's triple as the program tells it."""
+    return tuple(pair(Fraction(one)) for one in triple)

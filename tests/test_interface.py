@@ -22,6 +22,13 @@ INTERFACE = {
     "showing": {"shown": ["house"]},
     "ledgers": {"ledger": ["house", "plan"], "faults": ["house", "plan"]},
     "costs": {"costs": ["house", "plan"]},
+    "problems": {
+        "is_mix": ["rows", "rights", "tops", "mix"], "sum_of": ["costs", "mix"], "rests": ["costs", "rows", "prices"],
+        "floor": ["costs", "rows", "rights", "tops", "prices"],
+    },
+    "solving": {"solved": ["costs", "rows", "rights", "tops", "first"]},
+    "best": {"best_plan": ["house"]},
+    "floors": {"floor_of": ["house", "prices"]},
 }
 
 

@@ -37,6 +37,8 @@ NOT_USED = set("""
 """.split())
 WALKS = ("zip", "enumerate", "reversed", "range", "items", "keys", "values")
 TAKING_WALKS = ("list", "tuple", "dict", "sorted", "sum", "any", "all", "enumerate", "zip", "min", "max")
+CHANGES = ("append", "clear", "extend", "insert", "pop", "remove", "reverse", "setdefault", "update")
+OWN_VALUES = "count index title find get join lower upper split strip copy add".split()
 KEYWORDS = {
     "sorted": ("key", "reverse"), "min": ("key", "default"), "max": ("key", "default"), "sum": ("start",),
     "enumerate": ("start",), "zip": ("strict",),
@@ -209,6 +211,30 @@ class Language(unittest.TestCase):
                     name = getattr(node.func, "id", getattr(node.func, "attr", ""))
                     if name in WALKS:
                         self.assertIn(node, walked, f"{path.name}:{node.lineno}")
+
+    def test_what_a_loop_walks_is_not_changed_in_it(self):
+        for loop, place in self.each(ast.For):
+            walked = [loop.iter]
+            if isinstance(loop.iter, ast.Call):
+                walked = loop.iter.args + [getattr(loop.iter.func, "value", loop.iter)]
+            walked = [ast.unparse(node) for node in walked]
+            for node in [part for statement in loop.body for part in ast.walk(statement)]:
+                if isinstance(node, ast.Subscript) and isinstance(node.ctx, ast.Store):
+                    self.assertNotIn(ast.unparse(node.value), walked, place)
+                if isinstance(node, ast.Attribute) and node.attr in CHANGES:
+                    self.assertNotIn(ast.unparse(node.value), walked, place)
+
+    def test_own_methods_and_values(self):
+        known = {name for kind in (str, int, list, tuple, dict, set, bytes) for name in dir(kind)}
+        values = {}
+        for node, place in self.each(ast.Attribute):
+            if isinstance(node.ctx, ast.Store):
+                values[node.attr] = place
+        for name, place in values.items():
+            self.assertNotIn(name, own_methods(), place)
+            self.assertTrue(name in OWN_VALUES or name not in known, place)
+        for name in own_methods() - {"__init__"}:
+            self.assertTrue(name in METHODS or name in ("add", "discard") or name not in known, name)
 
     def test_keywords(self):
         for node, place in self.each(ast.Call):
