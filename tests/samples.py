@@ -1,7 +1,9 @@
-"""Houses, their texts, plans, prices and problems to try the program with, and the oracle's own reckoning of them."""
+"""Houses, plans, prices, problems and keepers to try the program with, and the oracle's own reckoning of them."""
 
 from fractions import Fraction
 import random
+
+from sunstore.errors import NoText, StoreError
 
 FULL = 1000000
 NAMES = ["a", "wash", "dark", "work", "zzzzzzzz", "heat", "hour", "cook"]
@@ -441,3 +443,151 @@ def problem_floor(costs, rows, rights, tops, prices):
 def paired(triple):
     """The oracle's triple as the program tells it."""
     return tuple(pair(Fraction(one)) for one in triple)
+
+
+def refused_at(case, reader, lines, place):
+    """The reader refuses the lines at this place, and they stay as they are."""
+    before = list(lines)
+    with case.assertRaises(NoText, msg=lines) as refusal:
+        reader(lines)
+    case.assertEqual(refusal.exception.place, place, lines)
+    case.assertIs(type(refusal.exception.place), int)
+    case.assertIsInstance(refusal.exception, StoreError)
+    case.assertEqual(lines, before)
+
+
+FILLS = ("none", "sun", "line")
+TAKES = ("none", "need", "give")
+WORKS = ("now", "wait")
+# A keeper for each three words, of one rule that is always used.
+PLAIN_KEEPERS = [(((), fill, take, works),) for fill in FILLS for take in TAKES for works in WORKS]
+
+
+def some_test(source, house):
+    """A test whose number is often one of the house's own, or beside it."""
+    word = source.choice(["from", "till", "over", "under", "dear", "cheap", "dark", "sunny"])
+    if word in ("dark", "sunny"):
+        return (word,)
+    if word in ("dear", "cheap"):
+        prices = [line[0] for _, _, line in house[0] if line is not None]
+        number = source.choice(prices + [0]) + source.choice([-1, 0, 0, 1])
+        return (word, source.choice([max(-FULL, min(FULL, number)), source.randint(-FULL, FULL), FULL, -FULL]))
+    near = source.randrange(len(house[0]))
+    if word in ("over", "under"):
+        near = source.choice([house[1][0], house[1][1], source.randint(0, house[1][0])])
+    return (word, source.choice([near, near, near, 0, 1, source.randint(0, FULL), FULL]))
+
+
+def some_keeper(source, house, rules, tests):
+    """A keeper of so many rules of so many tests, or of any number of them where tests is None."""
+    told = []
+    for _ in range(rules):
+        count = source.choice([0, 1, 1, 1, 2, 3, 6]) if tests is None else tests
+        words = (source.choice(FILLS), source.choice(TAKES), source.choice(WORKS))
+        told.append((tuple(some_test(source, house) for _ in range(count)),) + words)
+    return tuple(told)
+
+
+def some_keepers(source, house):
+    """Keepers for a house: of no rules, of a few and of twenty, of rules of one test or any number of them."""
+    counts = [(0, 0), (1, 1), (3, 1), (4, None), (20, None)]
+    return [some_keeper(source, house, rules, tests) for rules, tests in counts]
+
+
+def kept_days():
+    """(house, keepers): each house with keepers made for it, and some of those for any house, by a fixed seed."""
+    source = random.Random(28)
+    return [(house, some_keepers(source, house) + source.sample(PLAIN_KEEPERS, 3))
+            for house in some_days() + some_houses()]
+
+
+def keeper_text(keeper):
+    """The oracle's text of a keeper."""
+    lines = []
+    for tests, fill, take, works in keeper:
+        told = "".join(" " + " ".join(str(part) for part in test) for test in tests)
+        lines.append(f"when{told} fill {fill} take {take} works {works}")
+    return lines
+
+
+def holds_by_rules(test, number, hour, level):
+    """The oracle's answer if a test holds."""
+    sun, need, line = hour
+    price = None if line is None else line[0]
+    answers = {
+        "from": lambda n: number >= n, "till": lambda n: number <= n, "over": lambda n: level > n,
+        "under": lambda n: level < n, "dear": lambda n: price is not None and price >= n,
+        "cheap": lambda n: price is not None and price <= n, "dark": lambda: price is None,
+        "sunny": lambda: not sun < need,
+    }
+    return answers[test[0]](*test[1:])
+
+
+def rule_by_rules(keeper, number, hour, level):
+    """The oracle's answer which rule is used in an hour."""
+    fitting = [rule for rule in keeper if all(holds_by_rules(test, number, hour, level) for test in rule[0])]
+    return (fitting + [((), "sun", "need", "wait")])[0]
+
+
+def wishes_by_rules(works, number, undone, word):
+    """The oracle's wishes of the works in an hour."""
+    wishes = []
+    for (_, _, first, last, most), rest in zip(works, undone):
+        must = rest if word == "now" else max(Fraction(0), rest - most * (last - number))
+        wishes.append(min(must, Fraction(most)) if first <= number <= last else Fraction(0))
+    return wishes
+
+
+def hour_by_rules(house, number, level, undone, rule):
+    """The oracle's hour of a plan by the words of a rule, step by step."""
+    (sun, need, line), (size, _, fill, take, kept, left, _) = house[0][number], house[1]
+    kept, left = Fraction(*kept), Fraction(*left)
+    buy, give = (0, 0) if line is None else (line[1], line[3])
+    out = 0 if rule[2] == "none" else left * min(level, take)
+    can = sun + buy + out
+    met = min(Fraction(need), can)
+    can -= met
+    worked = []
+    for wish in wishes_by_rules(house[2], number, undone, rule[3]):
+        worked.append(min(wish, can))
+        can -= worked[-1]
+    # What is used beyond the sun, beyond what comes out too.
+    wanted = met + sum(worked)
+    sun_left = max(Fraction(0), sun - wanted)
+    wanted -= min(wanted, sun)
+    came_out = min(wanted, out)
+    bought = wanted - came_out
+    given = min(out - came_out, give) if rule[2] == "give" else Fraction(0)
+    taken = (came_out + given) / left
+    filled = Fraction(0)
+    if taken == 0 and rule[1] in ("sun", "line"):
+        room = min(fill, (size - level) / kept)
+        filled = min(sun_left, room)
+        sun_left -= filled
+        if rule[1] == "line":
+            more = min(room - filled, buy - bought)
+            filled, bought = filled + more, bought + more
+    given += min(sun_left, give - given)
+    return tuple(pair(one) for one in map(Fraction, (bought, given, filled, taken, need - met))) + (
+        tuple(pair(one) for one in worked),)
+
+
+def day_by_rules(house, keeper):
+    """The oracle's day of a keeper."""
+    level = Fraction(house[1][1])
+    undone = [Fraction(work[1]) for work in house[2]]
+    plan = []
+    for number, hour in enumerate(house[0]):
+        rule = rule_by_rules(keeper, number, hour, level)
+        plan.append(hour_by_rules(house, number, level, undone, rule))
+        _, _, filled, taken, _, worked = parts_of(plan[-1])
+        level += Fraction(*house[1][4]) * filled - taken
+        undone = [rest - part for rest, part in zip(undone, worked)]
+    return tuple(plan)
+
+
+def ranks_by_rules(house, keepers, least):
+    """The oracle's ranks of keepers, as the program tells them; least are the best plan's costs."""
+    days = [costs_of(house, day_by_rules(house, keeper)) for keeper in keepers]
+    order = sorted(range(len(keepers)), key=lambda number: (days[number], number))
+    return [(number, paired(days[number]), paired(combined([(1, days[number]), (-1, least)]))) for number in order]

@@ -29,6 +29,10 @@ INTERFACE = {
     "solving": {"solved": ["costs", "rows", "rights", "tops", "first"]},
     "best": {"best_plan": ["house"]},
     "floors": {"floor_of": ["house", "prices"]},
+    "keepers": {"day_of": ["house", "keeper"]},
+    "rules": {"read_keeper": ["lines"], "shown_keeper": ["keeper"]},
+    "ranks": {"ranks": ["house", "keepers"]},
+    "desk": {"Desk": ["lines"]},
 }
 
 
@@ -40,6 +44,17 @@ class Interface(unittest.TestCase):
                     told = getattr(importlib.import_module("sunstore." + module), name)
                     if arguments is not None:
                         self.assertEqual(list(inspect.signature(told).parameters), arguments)
+
+    def test_a_desk_s_method(self):
+        told = importlib.import_module("sunstore.desk").Desk
+        self.assertEqual(list(inspect.signature(told.say).parameters), ["self", "line"])
+
+    def test_each_stage_draws_from_lower_ones_alone(self):
+        stages = list(INTERFACE)
+        for path in sorted(PACKAGE.glob("*.py")):
+            for node in ast.parse(path.read_text(encoding="utf-8")).body:
+                if isinstance(node, ast.ImportFrom):
+                    self.assertLess(stages.index(node.module.split(".")[1]), stages.index(path.stem), path.name)
 
     def test_modules_draw_from_others_what_stands_in_the_interface_alone(self):
         for path in sorted(PACKAGE.glob("*.py")):

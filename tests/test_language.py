@@ -248,6 +248,15 @@ class Language(unittest.TestCase):
                     self.assertIsInstance(right, ast.Constant, place)
                     self.assertIn(right.value, (None, True, False), place)
 
+    def test_errors(self):
+        own = {node.name for node, _ in self.each(ast.ClassDef)}
+        for node, place in self.each(ast.ExceptHandler):
+            self.assertIsInstance(node.type, ast.Name, place)
+            self.assertIn(node.type.id, own | {"KeyError", "ZeroDivisionError", "StopIteration"}, place)
+        for node, place in self.each(ast.Raise):
+            self.assertIsInstance(node.exc, ast.Call, place)
+            self.assertIn(node.exc.func.id, own, place)
+
     def test_no_two_files_draw_from_one_another(self):
         drawn = {}
         for path, tree in trees():

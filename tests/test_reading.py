@@ -2,8 +2,7 @@
 
 import unittest
 
-from samples import BOUNDS, DAY, LEAST, kinds, some_houses, text_of
-from sunstore.errors import NoText, StoreError
+from samples import BOUNDS, DAY, LEAST, kinds, refused_at, some_houses, text_of
 from sunstore.reading import read
 from sunstore.showing import shown
 
@@ -79,14 +78,7 @@ NEVER = never_standing()
 
 class Reading(unittest.TestCase):
     def refused(self, lines, place):
-        """The lines are refused at this place, and stay as they are."""
-        ahead = list(lines)
-        with self.assertRaises(NoText, msg=lines) as refusal:
-            read(lines)
-        self.assertEqual(refusal.exception.place, place, lines)
-        self.assertIs(type(refusal.exception.place), int)
-        self.assertIsInstance(refusal.exception, StoreError)
-        self.assertEqual(lines, ahead)
+        refused_at(self, read, lines, place)
 
 
 class Houses(Reading):
